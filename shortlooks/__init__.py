@@ -1,0 +1,1 @@
+"""Rules that a watcher with a short look can keep."""

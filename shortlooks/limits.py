@@ -1,0 +1,12 @@
+"""The bounds that the rest of the package keeps to."""
+
+MOST_SIGNS = 3
+MOST_MOODS = 300
+MOST_ROW = 1000
+MOST_LOOK = 1000
+MOST_PIECE = 5
+MOST_MOVINGS = 300
+MOST_TRIPLES = 3000
+MOST_PAIRS = 3000
+MOST_LOTS = 3000
+MOST_CHANGES = 6

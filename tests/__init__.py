@@ -1,0 +1,1 @@
+"""Tests of shortlooks, for python3 -m unittest."""
