@@ -10,3 +10,8 @@ MOST_TRIPLES = 3000
 MOST_PAIRS = 3000
 MOST_LOTS = 3000
 MOST_CHANGES = 6
+
+
+def in_bounds(value, low, high):
+    """Whether a value is an integer from the one bound to the other, both counted in."""
+    return isinstance(value, int) and not isinstance(value, bool) and low <= value <= high

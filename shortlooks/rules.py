@@ -1,8 +1,7 @@
 """Rules: which rows are good, and the rules that differ from one in a single thing."""
 
-from shortlooks.errors import InvalidMood, InvalidRow, InvalidSign, InvalidText
-from shortlooks.limits import MOST_ROW
-from shortlooks.texts import read_rule, write_rule
+from shortlooks.errors import InvalidMood, InvalidRow, InvalidSign, InvalidText, NotARule, OtherSigns
+from shortlooks.texts import is_row_of, read_rule, write_rule
 
 
 class Rule:
@@ -46,7 +45,7 @@ class Rule:
 
     def mood(self, row):
         """The mood to which a row leads from the first one."""
-        if not self.is_row(row):
+        if not is_row_of(row, self.letters):
             raise InvalidRow(row)
         reached = self.words[0]
         for sign in row:
@@ -79,12 +78,6 @@ class Rule:
     # A value that is no string is never compared with one: it may be anything, also something
     # that cannot be compared.
 
-    def is_row(self, row):
-        """Whether a value is a row of signs of the rule that may be passed."""
-        if not isinstance(row, str) or len(row) > MOST_ROW:
-            return False
-        return all([sign in self.letters for sign in row])
-
     def is_mood(self, mood):
         """Whether a value is a mood of the rule."""
         return isinstance(mood, str) and mood in self.words
@@ -92,3 +85,17 @@ class Rule:
     def is_sign(self, sign):
         """Whether a value is a sign of the rule; a string of several signs is none."""
         return isinstance(sign, str) and len(sign) == 1 and sign in self.letters
+
+
+def check_rule(value):
+    """Raises NotARule if a value is no rule."""
+    if not isinstance(value, Rule):
+        raise NotARule(value)
+
+
+def check_fit(one, other):
+    """Raises NotARule for the first of two values that is no rule, OtherSigns if two rules do not fit."""
+    check_rule(one)
+    check_rule(other)
+    if one.signs != other.signs:
+        raise OtherSigns()

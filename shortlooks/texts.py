@@ -1,27 +1,32 @@
-"""How the strings of the package are read and written: words of letters, and the texts of rules."""
+"""How the strings of the package are read and written: rows, words of letters, and the texts of rules."""
 
-from shortlooks.limits import MOST_MOODS, MOST_SIGNS
+from shortlooks.limits import MOST_MOODS, MOST_ROW, MOST_SIGNS
 
 LETTERS = "abcdefghijklmnopqrstuvwxyz"
 LONGEST_WORD = 8
 TITLES = ("signs", "moods", "good")
 
 
-def only_letters(text):
-    """Whether a string has no other characters than letters from a to z."""
-    return all([letter in LETTERS for letter in text])
+def made_of(text, letters):
+    """Whether a string has no other characters than these letters."""
+    return all([letter in letters for letter in text])
+
+
+def is_row_of(value, letters):
+    """Whether a value is a row of these letters that may be passed."""
+    return isinstance(value, str) and len(value) <= MOST_ROW and made_of(value, letters)
 
 
 def is_word(text):
     """Whether a string has one to eight letters and nothing else."""
-    return 1 <= len(text) <= LONGEST_WORD and only_letters(text)
+    return 1 <= len(text) <= LONGEST_WORD and made_of(text, LETTERS)
 
 
 def are_signs(words):
     """Whether a list of words is one string of signs."""
     if len(words) != 1 or not 1 <= len(words[0]) <= MOST_SIGNS:
         return False
-    return only_letters(words[0]) and words[0] == "".join(sorted(set(words[0])))
+    return made_of(words[0], LETTERS) and words[0] == "".join(sorted(set(words[0])))
 
 
 def are_moods(words):

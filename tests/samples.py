@@ -1,5 +1,6 @@
 """What several tests need: texts of rules, written apart from the package, and odd values."""
 
+import itertools
 import random
 import string
 
@@ -49,6 +50,13 @@ def written(signs, moods, good, goals):
     return "\n".join(lines)
 
 
+def all_rows(signs, longest):
+    """All rows of at most so many signs, in their order."""
+    for length in range(longest + 1):
+        for row in itertools.product(signs, repeat=length):
+            yield "".join(row)
+
+
 def many_words(number):
     """So many different words, of two to eight letters."""
     words = []
@@ -68,9 +76,18 @@ def round_rule(number, signs="ab", good=()):
     return written(signs, moods, [moods[at] for at in good], goals)
 
 
-def random_parts(source, most=6):
+def tail_rule(tail, number, good, signs="a"):
+    """The text of a rule like `round_rule` with so many moods ahead of the first one that comes again."""
+    moods = many_words(tail + number)
+    following = list(range(1, tail + number)) + [tail]
+    goals = [moods[goal] for goal in following for sign in signs]
+    return written(signs, moods, [moods[at] for at in good], goals)
+
+
+def random_parts(source, most=6, signs=None):
     """The signs, moods, good moods and goals of some rule."""
-    signs = "".join(sorted(source.sample(string.ascii_lowercase, source.randint(1, 3))))
+    if signs is None:
+        signs = "".join(sorted(source.sample(string.ascii_lowercase, source.randint(1, 3))))
     wanted = source.randint(1, most)
     moods = []
     while len(moods) < wanted:
@@ -86,3 +103,13 @@ def random_rules(seed, number, most=6):
     """The parts of so many rules, always the same for a seed."""
     source = random.Random(seed)
     return [random_parts(source, most) for step in range(number)]
+
+
+def random_pairs(seed, number, most=4):
+    """The texts of so many pairs of rules that fit one another, always the same for a seed."""
+    source = random.Random(seed)
+    pairs = []
+    for step in range(number):
+        signs = source.choice(["a", "ab", "ab", "cx", "abc"])
+        pairs.append(tuple([written(*random_parts(source, most, signs)) for side in range(2)]))
+    return pairs

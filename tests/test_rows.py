@@ -1,18 +1,11 @@
 """Points [4] and [7]: rows, where they lead, and which are good."""
 
-import itertools
 import random
 import unittest
 
 from shortlooks.errors import InvalidRow
 from shortlooks.rules import Rule
-from tests.samples import ENDS, many_words, odd_values, random_rules, round_rule, written
-
-
-def all_rows(signs, longest):
-    for length in range(longest + 1):
-        for row in itertools.product(signs, repeat=length):
-            yield "".join(row)
+from tests.samples import ENDS, all_rows, many_words, odd_values, random_rules, round_rule, written
 
 
 class Rows(unittest.TestCase):
