@@ -10,13 +10,13 @@ from shortlooks.rules import Rule, check_fit, check_rule
 from shortlooks.texts import LETTERS, write_rule
 
 
-def explored(signs, start, step, most):
+def explored(signs, starts, step, most):
     """The states that come behind rows, in the order of their first rows, and for each one the numbers of its goals.
 
-    TooMany if there are more than `most`.
+    The rows may lead from several different states. TooMany if more than `most` come.
     """
-    numbers = {start: 0}
-    states = [start]
+    numbers = {start: number for number, start in enumerate(starts)}
+    states = list(starts)
     goals = []
     while len(goals) < len(states):
         state = states[len(goals)]
@@ -145,7 +145,7 @@ def least_rule(signs, goals, good):
 
 def formed(signs, start, step, is_good, most):
     """The least form of the rule whose moods are the states that come; TooMany if these are more than `most`."""
-    states, goals = explored(signs, start, step, most)
+    states, goals = explored(signs, [start], step, most)
     return least_rule(signs, goals, [is_good(state) for state in states])
 
 

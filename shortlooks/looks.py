@@ -7,16 +7,25 @@ from shortlooks.texts import LETTERS, is_row_of
 KINDS = ("last", "ends", "windows", "sets")
 
 
-def check_kind(kind):
-    """Raises InvalidKind if a value is no kind of watchers."""
-    if not (isinstance(kind, str) and kind in KINDS):
+def is_kind(value, kinds):
+    """Whether a value is one of these kinds of watchers."""
+    return isinstance(value, str) and value in kinds
+
+
+def is_number(kind, value, most):
+    """Whether a value is a number of signs for a watcher of this kind, up to a bound."""
+    return in_bounds(value, 0 if kind == "last" else 1, most)
+
+
+def check_kind(kind, kinds=KINDS):
+    """Raises InvalidKind if a value is none of these kinds of watchers."""
+    if not is_kind(kind, kinds):
         raise InvalidKind(kind)
 
 
 def check_number(kind, number):
     """Raises InvalidNumber if no watcher of this kind has a look of so many signs."""
-    least = 0 if kind == "last" else 1
-    if not in_bounds(number, least, MOST_LOOK):
+    if not is_number(kind, number, MOST_LOOK):
         raise InvalidNumber(number)
 
 
